@@ -1,0 +1,1 @@
+"""Bedround: garden beds and crops that may or may not come again."""
