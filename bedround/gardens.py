@@ -123,7 +123,7 @@ class Garden:
     def behind(self, state, planting):
         if not self.fits(state, planting):
             raise NoPlanting("the planting may not be in this state")
-        return tuple([self.bed_behind(bed[0], bed[1], crop) for bed, crop in zip(state, planting)])
+        return self.beds_behind(state, planting)
 
     def harvest(self, planting):
         return sum([self.harvests[crop] for crop in planting])
@@ -154,6 +154,10 @@ class Garden:
             if not self.lets(bed[0], bed[1], crop):
                 return False
         return self.meets_wants(planting)
+
+    def beds_behind(self, state, planting):
+        # For a planting that is known to be one that may be.
+        return tuple([self.bed_behind(bed[0], bed[1], crop) for bed, crop in zip(state, planting)])
 
     def bed_behind(self, soil, stood, crop):
         row = (crop,) + stood
